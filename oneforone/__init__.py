@@ -1,0 +1,1 @@
+"""Oneforone: what the signs of a board tell of hidden values."""

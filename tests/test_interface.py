@@ -1,0 +1,175 @@
+"""What holds for all functions: names, ways of passing arguments, new lists, unchanged arguments, any values."""
+
+import copy
+import importlib
+import inspect
+import unittest
+
+from oneforone.boards import Board, count_board
+from oneforone.dials import Dials
+from tests.cases import Case
+from tests.interface import CLASSES, FUNCTIONS
+from tests.walks import any_values, border, first_board, klein_board, sums_board
+
+TURNS = Board(2, 3, [0, 1, 2, 0])
+MOST = Board(2, 2, [0, 1, 1])
+THREE = Board(3, 2, [0, 1, 2, 2, 0, 1])
+DIALS = Dials([4], [[0], [1], [2]])
+ONE, OTHER = Dials([0], [[0], [1], [2]]), Dials([0], [[5], [3], [4]])
+
+# Right arguments for each function; where a list is expected, a list stands here.
+RIGHT = {
+    "bags": [(3, 4), (1, 0)], "count_bags": [(3, 4)], "bag_index": [(3, (0, 2))], "added": [((0, 2), 1)],
+    "removed": [((0, 1, 1), 1)],
+    "like_bags": [(MOST,), (THREE,)], "renamed": [(MOST,)], "count_board": [(2, 3)], "tells_no_less": [(MOST, MOST)],
+    "parting_bags": [(MOST, count_board(2, 2))], "is_parting_bags": [(MOST, count_board(2, 2), ((0, 1), (1, 1)))],
+    "both": [(MOST, MOST)], "read_board": [("2 1 / 5 -5",)],
+    "match_of": [(MOST, (0,), (1,))], "matches_with": [(MOST, (0, 1))],
+    "blocks": [(MOST,), (border(),)], "block_of": [(MOST, (0, 1))], "block_chain": [(MOST, (0, 1), (1, 0))],
+    "is_block_chain": [(MOST, (0, 1), (1, 0), [((1,), (0,)), ((0,), (1,))])], "even": [(MOST,)], "uneven": [(MOST,)],
+    "is_uneven": [(MOST, ((1,), (1,), (0,), (0,), (0, 0), (0, 1)))], "kinds": [(THREE,), (klein_board(3),)],
+    "seen": [(MOST,)], "unseen": [(MOST,)], "is_unseen": [(MOST, ((1,), 0, 1))], "sharp": [(MOST,)],
+    "unsharp": [(MOST,)], "is_unsharp": [(MOST, ((1,), (1,), (0, 1), (0, 0)))],
+    "same_values": [(THREE,), (sums_board(2, [0, 1, 0, 1]),)], "merged": [(sums_board(2, [0, 1, 0, 1]),)],
+    "kind_of": [(TURNS, (0, 1))], "same_kind": [(TURNS, (0, 1), (1, 0))], "next_sign": [(TURNS, 2, 1)],
+    "kind_between": [(TURNS, 0, 2)], "inverse": [(TURNS, 1)], "composed": [(TURNS, 1, 2)],
+    "is_counter": [(TURNS, [[(1, 0)], [(0, 1)], [(1, 1), (0, 0)]])],
+    "walk": [(TURNS, (0, 0, 1), [(0, 1), (1, 0)])], "log_kinds": [(TURNS, [1, 2, 0, 2])],
+    "log_signs": [(TURNS, 0, [2, 2])],
+    "moves": [(THREE,), (first_board(),)], "is_move": [(THREE, (1, 2, 0))], "mover": [(THREE, 1, 0)],
+    "circles_of": [(THREE,), (first_board(),), (count_board(3, 2),)], "moved": [(THREE, (0, 2), (1, 2, 0))],
+    "keeping": [(first_board(),)], "sign_moved": [(THREE, 2, (1, 2, 0))], "hiding": [(THREE,)],
+    "hiding_trades": [(THREE,)],
+    "number_of_signs": [(THREE,)], "number_of_kinds": [(THREE,)], "adding": [(THREE,), (klein_board(2),)],
+    "added_up": [(THREE, (2, 2))], "sum_boards": [(4,)],
+    "dials_board": [(DIALS, 2)], "difference": [(DIALS, 1, 2)], "same_marks": [(DIALS,)], "twice": [(DIALS,)],
+    "is_twice": [(DIALS, (0, 1, 1, 2))],
+    "shifts": [(DIALS, [0, 1])], "shifted": [(DIALS, 2, (3,))], "parting_counts": [(ONE, OTHER)],
+    "is_parting_counts": [(ONE, OTHER, ((1, 0, 1), (0, 2, 0)))],
+    "caps_board": [([1, 2], 3)], "least_caps": [([3, 1, 2],)], "cheap_sharp": [(3,)],
+    "shadow": [(MOST,)], "closing": [(Board(2, 3, [7, 1, 7, 5]),)],
+    "is_closing": [(Board(2, 3, [7, 1, 7, 5]), [((0, 0, 0), (0, 1, 1), None), ((0, 0, 1), (1, 1, 1), (
+        (0, 0), (0, 0), (0, 0), (1, 1), (0, 0), (1, 1)))])],
+    "distances": [(MOST,)], "divisor": [(MOST,)], "rests": [(3, 2)], "even_twos": [(4,)], "sort_of": [(MOST,)],
+    "loose_match": [(MOST,)], "turning_match": [(TURNS,)], "is_loose_match": [(MOST, ((1,), (1,), (0, 0), (0, 1)))],
+}
+
+
+def functions():
+    for module, listed in FUNCTIONS.items():
+        for name, arguments in listed.items():
+            yield getattr(importlib.import_module("oneforone." + module), name), arguments.split()
+
+
+def calls():
+    for function, names in functions():
+        for given in RIGHT[function.__name__]:
+            yield function, names, given
+
+
+def lists_in(value):
+    """All lists in a value, itself too, each as often as it stands there."""
+    found = [value] if type(value) is list else []
+    if type(value) in (list, tuple):
+        for item in value:
+            found += lists_in(item)
+    return found
+
+
+def with_tuples(value):
+    """The value with a tuple in the place of each list."""
+    return tuple(with_tuples(item) for item in value) if type(value) in (list, tuple) else value
+
+
+def state(value):
+    """What can be seen of a value, for lists and objects of the package as well."""
+    if type(value) in (list, tuple):
+        return type(value), [state(item) for item in value]
+    if type(value) in (Board, Dials):
+        return type(value), {name: copy.deepcopy(each) for name, each in vars(value).items()}
+    return type(value), value
+
+
+class Interface(Case):
+    def test_functions_are_there(self):
+        told = set()
+        for function, names in functions():
+            self.assertTrue(inspect.isfunction(function))
+            self.assertEqual(list(inspect.signature(function).parameters), names)
+            self.assertNotIn(function.__name__, told)
+            told.add(function.__name__)
+        self.assertEqual(told, set(RIGHT))
+        for module, listed in FUNCTIONS.items():
+            for name in listed:
+                home = importlib.import_module("oneforone." + module)
+                self.assertEqual(getattr(home, name).__module__, home.__name__)
+
+    def test_classes_are_there(self):
+        for module, listed in CLASSES.items():
+            home = importlib.import_module("oneforone." + module)
+            for name, (arguments, attributes, methods) in listed.items():
+                own = getattr(home, name)
+                self.assertEqual(own.__module__, home.__name__)
+                self.assertEqual(list(inspect.signature(own).parameters), arguments.split())
+                for method, names in methods.items():
+                    self.assertIn(method, vars(own))
+                    self.assertEqual(list(inspect.signature(vars(own)[method]).parameters)[1:], names.split())
+        for made, attributes in ((TURNS, "many size signs"), (DIALS, "rounds marks many")):
+            for attribute in attributes.split():
+                self.assertIn(attribute, vars(made))
+
+    def test_by_position_and_by_name(self):
+        for function, names, given in calls():
+            expected = function(*given)
+            self.assertEqual(function(**dict(zip(names, given))), expected)
+            turned = dict(reversed(list(zip(names, given))))
+            self.assertEqual(function(**turned), expected)
+            self.assertEqual(function(given[0], **dict(zip(names[1:], given[1:]))), expected)
+        self.assertEqual(Board(size=2, signs=[0, 1, 1], values=2), MOST)
+        self.assertEqual(Dials(marks=[[0], [1], [2]], rounds=[4]), DIALS)
+        self.assertEqual([MOST.sign(bag=(0, 1)), MOST(bag=(0, 1)), DIALS.sum_of(bag=(1, 1))], [1, 1, (2,)])
+
+    def test_lists_and_tuples_alike(self):
+        for function, names, given in calls():
+            expected = function(*given)
+            found = function(*[with_tuples(each) for each in given])
+            self.assertEqual(found, expected)
+            self.assertEqual(state(found), state(expected))
+
+    def test_lists_are_new(self):
+        for function, names, given in calls():
+            first, second = function(*given), function(*given)
+            self.assertEqual(state(first), state(second))
+            both = lists_in(first) + lists_in(second) + lists_in(given)
+            self.assertEqual(len({id(each) for each in both}), len(both), function.__name__)
+            for each in lists_in(first):
+                each.clear()
+            self.assertEqual(state(function(*given)), state(second))
+
+    def test_arguments_are_not_changed(self):
+        for function, names, given in calls():
+            before = [state(each) for each in given]
+            function(*given)
+            self.assertEqual([state(each) for each in given], before)
+
+    def test_equal_arguments_give_equal_results(self):
+        for function, names, given in calls():
+            self.assertEqual(state(function(*copy.deepcopy(given))), state(function(*given)))
+
+    def test_judges_take_any_value(self):
+        judges = 0
+        for function, names, given in calls():
+            if function.__name__.startswith("is_"):
+                judges += 1
+                self.assertIs(function(*given), True)
+                for value in any_values():
+                    before = state(value)
+                    self.assertIs(type(function(*given[:-1], value)), bool)
+                    self.assertIs(type(function(*given[:-1], value=value)), bool)
+                    self.assertEqual(state(value), before)
+                self.assertIs(function(*given[:-1], None), False)
+        self.assertEqual(judges, 11)
+
+
+if __name__ == "__main__":
+    unittest.main()
