@@ -50,15 +50,15 @@ def is_bag(value, values, least, most):
     return True
 
 
-def is_set(value, values):
-    """Whether it is an ascending list of one or more unlike values, each of them below `values`."""
-    if not is_list(value, 1, values):
+def is_set(value, below, least=1, most=None):
+    """Whether it is an ascending list of `least` to `most` unlike integers from 0 on, each of them under `below`."""
+    if not is_list(value, least, most):
         return False
-    least = 0
+    after = 0
     for item in value:
-        if not is_between(item, least, values - 1):
+        if not is_between(item, after, below - 1):
             return False
-        least = item + 1
+        after = item + 1
     return True
 
 

@@ -161,6 +161,166 @@ raises SameMarks(0, 1)
 >>> is_loose_match(loose, ((0, 0), (0, 1), (1, 1), (1, 0)))
 True
 """,
+    "mixtures": """
+>>> from oneforone.mixtures import border_board, is_mixture, mixture, sum_shadow
+>>> border = border_board()
+>>> [border.signs, sum_shadow(border).signs]
+[(0, 1, 2, 3, 4, 5, 2, 6, 7, 3), (0, 1, 2, 3, 4, 5, 2, 6, 0, 3)]
+>>> pairs = [((0, 1, 1), (2, 2, 2), -1), ((0, 0, 2), (1, 1, 1), -1)]
+>>> [is_mixture(border, (1, 2, 2), (0, 0, 0), pairs), is_mixture(border, (0, 1, 2), (0, 1, 2), [])]
+[True, True]
+>>> mixture(border, (0, 0, 1), (0, 0, 0))
+raises NoMixture((0, 0, 1), (0, 0, 0))
+""",
+    "totals": """
+>>> from oneforone.dials import Dials
+>>> from oneforone.totals import Total, least, parting_things, total_of
+>>> odd = Total(2, [[0, 1], [1, 0]], [5, 7])
+>>> [odd.stand([1, 0, 1, 1]), odd.sign((1,)), odd.many, len(odd), total_of(Dials([2], [[0], [1]])).signs]
+[1, 7, 2, 2, (0, 1)]
+>>> [least(Total(2, [[2, 1], [1, 2], [0, 1]], [5, 7, 5])) == odd, parting_things(odd, Total(2, [[0, 1], [1, 1]], [5, 7]))]
+[True, (1, 1)]
+""",
+    "orders": """
+>>> from oneforone.orders import board_at, disorder, is_disorder
+>>> from oneforone.totals import Total
+>>> some = Total(2, [[0, 1], [1, 1]], [5, 7])
+>>> [disorder(some), board_at(some, 2).signs, is_disorder(Total(2, [[0, 1], [0, 1]], [5, 7]), ((0, 1), (1, 0)))]
+[None, (5, 7, 7), True]
+""",
+    "calendars": """
+>>> from oneforone.calendars import answer_at, calendar
+>>> from oneforone.totals import Total
+>>> odd = Total(2, [[0, 1], [1, 0]], [5, 7])
+>>> [calendar(odd, "seen"), calendar(odd, "sharp"), answer_at((2, (True, False, True)), 6)]
+[(2, (True, True)), (2, (True, False)), False]
+""",
+    "comers": """
+>>> from oneforone.comers import broken, is_broken, is_unclear, marks_of, unclear
+>>> from oneforone.totals import Total
+>>> some = Total(2, [[0, 1], [1, 1]], [5, 7])
+>>> [unclear(some, 1), is_unclear(some, 2, ((1,), (1,), 0, 1)), is_broken(some, ("goes", (0,), (1,), 1))]
+[None, True, True]
+>>> odd = Total(2, [[0, 1], [1, 0]], [5, 7])
+>>> [broken(odd), marks_of(odd).sum_of((0, 0)) == marks_of(odd).sum_of((1, 1))]
+[None, True]
+""",
+    "scenes": """
+>>> from oneforone.boards import count_board
+>>> from oneforone.dials import Dials
+>>> from oneforone.scenes import Scene, alike, bag_at, is_history, signs_of, with_ask, without_ask
+>>> scene = Scene(3, [(count_board(2, 2), [[0, 1], [1, 2]]), (Dials([2], [[0], [1]]), [[2], []])])
+>>> [scene.stints, scene.many, scene.readers[1][1], scene.board(1, 2).signs, scene.sign(1, 0, [0, 1, 1])]
+[3, 2, ((2,), ()), (0, 1, 0), (1,)]
+>>> [signs_of(scene, [0, 1, 1]), alike(scene, [0, 1, 1], [0, 1, 0]), bag_at(scene, 0, 1, [0, 1, 0])]
+[[(1, 2), ((1,), (0,))], False, (0, 1)]
+>>> [with_ask(scene, 1, [0, 1]).readers[1][1], without_ask(scene, 0, 0).readers[0][1], is_history(scene, [0, 2, 0])]
+[((2,), (), (0, 1)), ((1, 2),), False]
+>>> with_ask(scene, 0, [2])
+raises InvalidLot([2])
+""",
+    "links": """
+>>> from oneforone.boards import count_board
+>>> from oneforone.links import joint_of, joints, link_asks, links, number, pieces, strands
+>>> from oneforone.scenes import Scene
+>>> scene = Scene(5, [(count_board(2, 2), [[0, 1], [2, 3], [1, 2]])])
+>>> [links(scene, 0), link_asks(scene, 0, (2, 1, 3)), strands(scene, 0, 2), joints(scene), joint_of(scene, 4)]
+[[(2, 0, 2), (2, 1, 3)], (2, 1), [[0, 2], [1, 3]], [[0, 2], [1, 3], [4]], 2]
+>>> [pieces(scene, 0), number(scene, 0, 1, [0, 2]), number(scene, 0, 1, [0, 4])]
+[[[0, 1, 2]], 1, 0]
+>>> link_asks(scene, 0, (2, 0, 1))
+raises NotALink((2, 0, 1))
+""",
+    "tables": """
+>>> from oneforone.boards import count_board
+>>> from oneforone.tables import renew_rows, renew_scene, trades_scene
+>>> scene = renew_scene(count_board(2, 2), 2, [0, 1, 0])
+>>> [scene.stints, scene.readers[0][1], renew_rows(2, [0, 1, 0])]
+[5, ((0, 1), (1, 2), (2, 3), (3, 4)), [[0, 2, 4], [1, 3]]]
+>>> trades_scene(count_board(2, 1), 3, 1, [(0, 2), (2, 1)]).readers[0][1]
+((0,), (2,), (1,))
+>>> trades_scene(count_board(2, 1), 3, 1, [(1, 2)])
+raises InvalidScript([(1, 2)])
+""",
+    "bars": """
+>>> from oneforone.boards import Board, count_board
+>>> from oneforone.bars import apart, bar, gone_along, is_bar
+>>> from oneforone.scenes import Scene
+>>> scene = Scene(3, [(count_board(2, 2), [[0, 1], [1, 2]])])
+>>> [bar(scene, [0, 1, 0], [1, 0, 1]), bar(scene, [0, 1, 0], [1, 0, 0]), bar(scene, [0, 0, 0], [1, 0, 1])]
+[None, ('strand', 0, 2, 0, 2), ('ask', 0, 0)]
+>>> [apart(scene, [0, 1, 0], [1, 1, 0]), apart(scene, [0, 0, 0], [1, 0, 1]), is_bar(scene, [0, 0, 0], [1, 0, 1], ("ask", 0, 1))]
+[(0, 2, 0, 2), None, False]
+>>> gone_along(scene, [0, 1, 0], 0, 1)
+((0, 1), (2, 1))
+>>> gone_along(scene, [0, 1, 1], 0, 1)
+raises Barred(2)
+>>> bar(Scene(4, [(Board(2, 3, [0, 1, 1, 0]), [[0, 1, 2], [1, 2, 3]])]), [0, 0, 0, 0], [0, 0, 0, 1])
+raises UnevenReader(0, 3)
+""",
+    "ways": """
+>>> from oneforone.boards import count_board
+>>> from oneforone.scenes import Scene
+>>> from oneforone.ways import fates, histories_alike, known, next_signs, stays_open, sure_same, twin, ways
+>>> scene = Scene(3, [(count_board(2, 2), [[0, 1], [1, 2]])])
+>>> [histories_alike(scene, [0, 1, 0]), known(scene, [0, 1, 0]), fates(scene, [0, 1, 1])]
+[[(0, 1, 0), (1, 0, 1)], [], [(0,), (1,), (1,)]]
+>>> [ways(scene, [0, 1, 0], 0), twin(scene, [0, 1, 0], 2), sure_same(scene, [0, 1, 0], 0, 1), sure_same(scene, [0, 1, 0], 0, 2)]
+[[(0, 0), (1, 1)], (1, 0, 1), 'never', 'always']
+>>> [next_signs(scene, [0, 1, 0], 0, [0, 2]), stays_open(scene, [0, 1, 0], 0, 0, [0, 1])]
+[[0, 2], None]
+""",
+    "sharp": """
+>>> from oneforone.boards import Board, count_board
+>>> from oneforone.scenes import Scene
+>>> from oneforone.sharp import chain, is_chain, one_valued
+>>> scene = Scene(4, [(count_board(2, 2), [[0, 1], [1, 2], [2, 3]])])
+>>> [one_valued(scene, [0, 1, 1, 1]), chain(scene, [0, 1, 1, 1], 3)]
+[[1], None]
+>>> [is_chain(scene, [0, 1, 1, 1], 0, [(0, 2, 0, 2)]), is_chain(scene, [0, 1, 1, 1], 0, [(0, 2, 0, 2), (0, 2, 2, 0)])]
+[False, True]
+>>> chain(Scene(3, [(Board(2, 2, [0, 1, 0]), [[0, 1], [1, 2]])]), [0, 0, 0], 3)
+raises UnsharpReader(0, 2)
+""",
+    "numbers": """
+>>> from oneforone.boards import Board
+>>> from oneforone.numbers import loosener, telling_number
+>>> sums, odd = Board(3, 2, [0, 1, 2, 2, 3, 4]), Board(2, 2, [0, 1, 0])
+>>> [loosener(sums, [0, 1]), loosener(sums, [0, 2]), telling_number(sums), telling_number(odd)]
+[((0, 1), (1, 2)), None, 3, None]
+>>> loosener(sums, [1, 0])
+raises InvalidSet([1, 0])
+""",
+    "breakers": """
+>>> from oneforone.boards import Board
+>>> from oneforone.breakers import is_open_table, is_uneven_table, is_unsharp_table, open_table
+>>> is_open_table(Board(3, 2, [0, 1, 2, 2, 3, 4]), [0, 1], ([0], [0, 1, 1], [1, 0, 2]))
+True
+>>> is_uneven_table(Board(2, 2, [0, 1, 1]), ([0, 1, 0], [0, 1, 1], [0, 0, 0], [0, 0, 1]))
+True
+>>> odd = Board(2, 2, [0, 1, 0])
+>>> [is_unsharp_table(odd, ((0, 1, 1), (1, 0, 0))), is_unsharp_table(odd, ((0, 1, 0), (1, 0, 1)))]
+[True, False]
+>>> open_table(Board(2, 2, [0, 1, 2]), [0, 1])
+raises Rigid([0, 1])
+""",
+    "renewing": """
+>>> from oneforone.boards import Board, count_board
+>>> from oneforone.renewing import alike_by_renewing, told_by_renewing
+>>> [alike_by_renewing(Board(2, 3, [0, 1, 0, 1])), alike_by_renewing(count_board(2, 3))]
+[4, None]
+>>> told_by_renewing(Board(2, 2, [0, 1, 0]))
+raises Hidden((1, 0))
+""",
+    "trades": """
+>>> from oneforone.trades import best_numbers, fewest_trades, is_joining, is_like_sums, joining_script, like_sums
+>>> [is_joining(4, 2, joining_script(4, 2)), is_joining(3, 1, [(0, 1), (1, 2)]), is_joining(3, 1, [(0, 1), (1, 0)])]
+[True, True, False]
+>>> [best_numbers(7, 3), fewest_trades(7, 3), fewest_trades(4, 3), fewest_trades(12, 4)]
+[[1, 2], 5, 2, 10]
+>>> [like_sums([1, 2, 4]), is_like_sums([3, 1, 2], ([0], [1, 2])), is_like_sums([3, 0], ([], [1]))]
+[None, True, True]
+""",
 }
 
 

@@ -7,8 +7,11 @@ import unittest
 
 from oneforone.boards import Board, count_board
 from oneforone.dials import Dials
+from oneforone.scenes import Scene
+from oneforone.totals import Total
 from tests.cases import Case
 from tests.interface import CLASSES, FUNCTIONS
+from tests.runs import LAST, ODD, SOME
 from tests.walks import any_values, border, first_board, klein_board, sums_board
 
 TURNS = Board(2, 3, [0, 1, 2, 0])
@@ -16,6 +19,10 @@ MOST = Board(2, 2, [0, 1, 1])
 THREE = Board(3, 2, [0, 1, 2, 2, 0, 1])
 DIALS = Dials([4], [[0], [1], [2]])
 ONE, OTHER = Dials([0], [[0], [1], [2]]), Dials([0], [[5], [3], [4]])
+COUNTS = count_board(2, 2)
+PAIR = Scene(3, [(COUNTS, [[0, 1], [1, 2]])])
+LINE = Scene(5, [(COUNTS, [[0, 1], [1, 2], [2, 3]]), (ODD, [[], [0], [0, 4]]), (Dials([2], [[0], [1]]), [[4], [0, 1, 3]])])
+SUMS = Board(3, 2, [0, 1, 2, 2, 3, 4])
 
 # Right arguments for each function; where a list is expected, a list stands here.
 RIGHT = {
@@ -52,6 +59,39 @@ RIGHT = {
         (0, 0), (0, 0), (0, 0), (1, 1), (0, 0), (1, 1)))])],
     "distances": [(MOST,)], "divisor": [(MOST,)], "rests": [(3, 2)], "even_twos": [(4,)], "sort_of": [(MOST,)],
     "loose_match": [(MOST,)], "turning_match": [(TURNS,)], "is_loose_match": [(MOST, ((1,), (1,), (0, 0), (0, 1)))],
+    "sum_shadow": [(MOST,), (border(),)], "mixture": [(border(), (0, 0, 0), (1, 2, 2)), (MOST, (0, 0), (0, 0))],
+    "is_mixture": [(border(), (1, 2, 2), (0, 0, 0), [((0, 1, 1), (2, 2, 2), -1), ((0, 0, 2), (1, 1, 1), -1)])],
+    "sum_marks": [(border(),), (THREE,)], "border_board": [()],
+    "least": [(Total(2, [[2, 1], [1, 2], [0, 1]], [5, 7, 5]),)], "parting_things": [(ODD, SOME)], "total_of": [(DIALS,)],
+    "disorder": [(LAST,), (ODD,)], "is_disorder": [(LAST, ((0, 1), (1, 0)))], "board_at": [(ODD, 3)],
+    "calendar": [(ODD, "sharp")], "answer_at": [((2, (True, False)), 5)],
+    "unclear": [(SOME, 2), (ODD, 1)], "is_unclear": [(SOME, 2, ((1,), (1,), 0, 1))], "broken": [(SOME,), (ODD,)],
+    "is_broken": [(SOME, ("goes", (0,), (1,), 1))], "marks_of": [(ODD,)],
+    "is_history": [(PAIR, [0, 1, 1])], "alike": [(PAIR, [0, 1, 0], [1, 0, 1])], "signs_of": [(LINE, [0, 1, 1, 0, 1])],
+    "bag_at": [(LINE, 2, 1, [0, 1, 1, 0, 1])], "with_ask": [(LINE, 1, [0, 1]), (PAIR, 0, [0, 2])],
+    "without_ask": [(LINE, 2, 0)],
+    "links": [(LINE, 0)], "link_asks": [(LINE, 0, (2, 1, 3))], "strands": [(LINE, 0, 2)], "joints": [(LINE,)],
+    "joint_of": [(LINE, 3)], "pieces": [(LINE, 0), (LINE, 1)], "number": [(LINE, 0, 1, [0, 2])],
+    "renew_scene": [(SUMS, 2, [0, 1, 0]), (ODD, 3, [])], "renew_rows": [(2, [0, 1, 0])],
+    "trades_scene": [(COUNTS, 4, 2, [(0, 2), (2, 0)])],
+    "apart": [(PAIR, [0, 1, 0], [1, 1, 0])], "bar": [(PAIR, [0, 0, 0], [1, 0, 1]), (PAIR, [0, 1, 0], [1, 0, 0])],
+    "is_bar": [(PAIR, [0, 0, 0], [1, 0, 1], ("ask", 0, 0)), (PAIR, [0, 1, 0], [1, 0, 0], ("strand", 0, 2, 0, 2))],
+    "gone_along": [(PAIR, [0, 1, 0], 0, 1)],
+    "ways": [(PAIR, [0, 1, 0], 0)], "histories_alike": [(PAIR, [0, 1, 0])], "count_alike": [(PAIR, [0, 1, 0])],
+    "fates": [(PAIR, [0, 1, 0])], "known": [(PAIR, [0, 1, 1])], "twin": [(PAIR, [0, 1, 0], 2)],
+    "sure_same": [(PAIR, [0, 1, 0], 0, 1)], "next_signs": [(PAIR, [0, 1, 0], 0, [0, 2]), (LINE, [0, 1, 1, 0, 1], 2, [0])],
+    "stays_open": [(PAIR, [0, 1, 0], 0, 0, [0, 2]), (PAIR, [0, 1, 0], 0, 0, [0, 1])],
+    "chain": [(PAIR, [0, 1, 1], 2)], "is_chain": [(PAIR, [0, 1, 1], 0, [(0, 2, 0, 2), (0, 2, 2, 0)])],
+    "one_valued": [(PAIR, [0, 1, 0])],
+    "loosener": [(SUMS, [0, 1])], "is_loosener": [(SUMS, [0, 1], ((0, 1), (1, 2)))], "telling_number": [(SUMS,)],
+    "open_table": [(SUMS, [0, 1])], "is_open_table": [(SUMS, [0, 1], ([0], [0, 1, 1], [1, 0, 2]))],
+    "uneven_table": [(MOST,)], "is_uneven_table": [(MOST, ([0, 1, 0], [0, 1, 1], [0, 0, 0], [0, 0, 1]))],
+    "unsharp_table": [(MOST,), (Board(2, 2, [0, 1, 0]),)],
+    "is_unsharp_table": [(Board(2, 2, [0, 1, 0]), ([0, 1, 1], [1, 0, 0]))],
+    "told_by_renewing": [(COUNTS,)], "alike_by_renewing": [(THREE,)], "unlike_numbers": [(COUNTS,)],
+    "joining_script": [(6, 3)], "is_joining": [(3, 1, [(0, 1), (1, 2)])], "told_by_trades": [(COUNTS, 4)],
+    "like_sums": [([3, 5, 1, 2],), ([1, 2, 4],)], "is_like_sums": [([3, 1, 2], ([0], [1, 2]))],
+    "best_numbers": [(9, 5)], "fewest_trades": [(9, 5)], "telling_script": [(9, 5)],
 }
 
 
@@ -85,7 +125,9 @@ def state(value):
     """What can be seen of a value, for lists and objects of the package as well."""
     if type(value) in (list, tuple):
         return type(value), [state(item) for item in value]
-    if type(value) in (Board, Dials):
+    if type(value) is Scene:
+        return Scene, value.stints, value.many, state(value.readers)
+    if type(value) in (Board, Dials, Total):
         return type(value), {name: copy.deepcopy(each) for name, each in vars(value).items()}
     return type(value), value
 
@@ -114,8 +156,9 @@ class Interface(Case):
                 for method, names in methods.items():
                     self.assertIn(method, vars(own))
                     self.assertEqual(list(inspect.signature(vars(own)[method]).parameters)[1:], names.split())
-        for made, attributes in ((TURNS, "many size signs"), (DIALS, "rounds marks many")):
-            for attribute in attributes.split():
+        for made in (TURNS, DIALS, ODD, LINE):
+            home = CLASSES[type(made).__module__.split(".")[1]]
+            for attribute in home[type(made).__name__][1].split():
                 self.assertIn(attribute, vars(made))
 
     def test_by_position_and_by_name(self):
@@ -124,10 +167,14 @@ class Interface(Case):
             self.assertEqual(function(**dict(zip(names, given))), expected)
             turned = dict(reversed(list(zip(names, given))))
             self.assertEqual(function(**turned), expected)
-            self.assertEqual(function(given[0], **dict(zip(names[1:], given[1:]))), expected)
+            self.assertEqual(function(*given[:1], **dict(zip(names[1:], given[1:]))), expected)
         self.assertEqual(Board(size=2, signs=[0, 1, 1], values=2), MOST)
         self.assertEqual(Dials(marks=[[0], [1], [2]], rounds=[4]), DIALS)
         self.assertEqual([MOST.sign(bag=(0, 1)), MOST(bag=(0, 1)), DIALS.sum_of(bag=(1, 1))], [1, 1, (2,)])
+        self.assertEqual(Total(signs=[5, 7], steps=[[0, 1], [1, 0]], values=2), ODD)
+        self.assertEqual([ODD.stand(things=[1]), ODD.sign(things=[1])], [1, 7])
+        self.assertEqual(Scene(readers=[(COUNTS, [[0, 1], [1, 2]])], stints=3), PAIR)
+        self.assertEqual([PAIR.board(size=2, reader=0), PAIR.sign(history=[0, 1, 1], ask=1, reader=0)], [COUNTS, 2])
 
     def test_lists_and_tuples_alike(self):
         for function, names, given in calls():
@@ -168,7 +215,7 @@ class Interface(Case):
                     self.assertIs(type(function(*given[:-1], value=value)), bool)
                     self.assertEqual(state(value), before)
                 self.assertIs(function(*given[:-1], None), False)
-        self.assertEqual(judges, 11)
+        self.assertEqual(judges, 25)
 
 
 if __name__ == "__main__":

@@ -1,6 +1,6 @@
 """The words of the document, followed step by step and without the program's help, and boards to try them on.
 
-Nothing here is imported from the package but the two classes that make the arguments.
+Nothing here is imported from the package but the classes that make the arguments.
 """
 
 import random
@@ -8,6 +8,8 @@ from itertools import combinations_with_replacement, product
 
 from oneforone.boards import Board
 from oneforone.dials import Dials
+from oneforone.scenes import Scene
+from oneforone.totals import Total
 
 LONG = 98765432109876543210
 
@@ -228,7 +230,8 @@ def mutants(value):
 def any_values():
     """Any values: those of all kinds, nested up to eight deep."""
     plain = [None, True, False, 0, 1, -1, 2, 10 ** 19, "", "x", "0", Board(2, 2, [0, 1, 2]), Board(1, 1, [0]),
-             Dials([], [[]]), Dials([0], [[0], [1]])]
+             Dials([], [[]]), Dials([0], [[0], [1]]), Total(2, [[0, 1], [1, 0]], [5, 7]),
+             Scene(3, [(Board(2, 2, [0, 1, 2]), [[0, 1], [1, 2]])])]
     found = list(plain)
     for one in plain:
         found += [[one], (one,), {"a": one}, [[one]], ((one,),), [(one, one)], ((one, one),), (one, one), [one, one],
