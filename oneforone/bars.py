@@ -72,8 +72,8 @@ def is_bar(scene, one, other, value):
         return False
     if value[0] == "strand" and len(value) == 5:
         return _is_strand_bar(scene, one, other, value[1:])
-    if value[0] == "ask" and len(value) == 3:
-        return value[1:] in first_asks(scene) and _tells(scene, value[1], value[2], one, other)
+    if value[0] == "ask" and value[1:] in first_asks(scene):
+        return _tells(scene, value[1], value[2], one, other)
     return False
 
 

@@ -56,7 +56,7 @@ def _answer(total, word, stands):
 
 def calendar(total, word):
     """The size from which on the answers come round, and the answers for the sizes from 1 on until they do."""
-    if not isinstance(word, str) or word not in ("seen", "even", "sharp", "clear"):
+    if word not in ("seen", "even", "sharp", "clear"):
         raise InvalidWord(word)
     check_orderless(total)
     parts = [[0]]

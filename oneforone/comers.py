@@ -61,7 +61,7 @@ def broken(total):
 def is_broken(total, value):
     """Whether it is two bags of as many values that break the total by one value more."""
     check_orderless(total)
-    if not is_tuple(value, 4) or not isinstance(value[0], str) or value[0] not in ("comes", "goes"):
+    if not is_tuple(value, 4) or value[0] not in ("comes", "goes"):
         return False
     word, one, other, more = value
     if not all([is_bag(bag, total.many, 0, 60) for bag in (one, other)]) or len(one) != len(other):

@@ -43,11 +43,9 @@ def rest_of(stairs, row):
     return rest
 
 
-def _is_diagonal(rows):
-    """Whether no two numbers but 0 stand in one row or in one column."""
-    places = [[column for column, number in enumerate(row) if number != 0] for row in rows]
-    filled = [column for each in places for column in each]
-    return all([len(each) < 2 for each in places]) and len(set(filled)) == len(filled)
+def _is_diagonal(stairs):
+    """Whether each stair has one number but 0; no two stairs have it in one column."""
+    return all([len([number for number in stair if number != 0]) == 1 for stair in stairs])
 
 
 def _turned(rows, sides):

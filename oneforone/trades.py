@@ -11,8 +11,6 @@ from oneforone.tables import check_trading, rows_in
 
 def _joining(ins, outs):
     """Trades, one less than there are rows, that join some rows that are in and some that are out."""
-    if not outs:
-        return []
     path = [ins[0]] + outs
     # Behind the first trades the first one of the rows that were in is out, then the next one of them, and so on.
     return list(zip(path, outs)) + list(zip(ins[1:], ins))
@@ -48,10 +46,6 @@ def _check_numbers(numbers):
         raise InvalidNumbers(numbers)
 
 
-def _without(places, others):
-    return [place for place in places if place not in others]
-
-
 def like_sums(numbers):
     """Two lists of places, without a common one, of numbers with one sum, or None."""
     _check_numbers(numbers)
@@ -60,7 +54,8 @@ def like_sums(numbers):
         fresh = {total + number: chosen + [at] for total, chosen in places.items()}
         for total, chosen in fresh.items():
             if total in places:
-                return _without(chosen, places[total]), _without(places[total], chosen)
+                # These have no common place: without it they would have one sum, too, and have come before.
+                return chosen, places[total]
         places.update(fresh)
     return None
 

@@ -15,7 +15,7 @@ from tests.runs import ODD
 from tests.sights import (LINE, UNEVEN, UNSEEN, all_histories, alike_lists, even_readers, first_not, in_one, kind_lists,
                           random_scenes, seen_readers, shown)
 from tests.test_scenes import NO_HISTORIES
-from tests.walks import any_values, is_even, is_int, is_seen, mutants, random_boards, sums_board
+from tests.walks import KLEIN, any_values, is_even, is_int, is_seen, mutants, random_boards, sums_board
 
 PAIR = Scene(3, [(count_board(2, 2), [[0, 1], [1, 2]])])
 ODD_BOARD = Board(2, 3, [0, 1, 1, 0])
@@ -81,6 +81,12 @@ class Apart(Case):
             for one, others in alike_lists(scene).items():
                 for other in others:
                     self.assertIsNone(apart(scene, one, other))
+
+    def test_several_sizes_of_one_reader(self):
+        scene = Scene(5, [(Dials([0], [[0], [1]]), [[0], [1], [2, 3], [3, 4]])])
+        self.assertIsNone(apart(scene, [0, 1, 0, 1, 0], [0, 1, 1, 0, 1]))
+        self.assertEqual(apart(scene, [0, 1, 0, 1, 0], [1, 1, 1, 0, 0]), (0, 1, 0, 1))
+        self.assertEqual(apart(scene, [0, 1, 0, 1, 0], [0, 1, 1, 0, 0]), (0, 2, 2, 4))
 
     def test_equal_changes_in_no_block(self):
         scene = Scene(2, [(Board(3, 1, [0, 1, 0]), [[0], [1]])])
@@ -232,10 +238,17 @@ class GoingAlong(Case):
         turn = Dials([3], [[0], [1], [2]])
         back = Dials([3], [[0], [2], [1]])
         odd = Dials([0], [[0], [1], [2]])
-        for scene in (Scene(3, [(turn, [[0], [1]]), (back, [[0, 2], [1, 2]])]),
+        four = Dials([4], [[0], [1], [2], [3]])
+        both = Scene(3, [(four, [[0, 2], [1, 2]]), (KLEIN, [[0, 2], [1, 2]])])
+        self.assertEqual(forced(both, (0, 1, 0), 0, 1), {(0, 1), (0, 3), (1, 0), (1, 2)})
+        self.fails(Barred, {"stint": 0}, gone_along, both, [0, 1, 0], 0, 1)
+        late = Scene(4, [(four, [[1, 2], [2, 3]]), (KLEIN, [[1, 2], [2, 3]])])
+        self.fails(Barred, {"stint": 1}, gone_along, late, [0, 0, 0, 1], 3, 2)
+        self.assertEqual(gone_along(late, [0, 0, 0, 1], 3, 1), ((1, 0), (3, 1)))
+        for scene in (both, late, Scene(3, [(turn, [[0], [1]]), (back, [[0, 2], [1, 2]])]),
                       Scene(3, [(odd, [[0, 2], [1, 2]]), (Dials([0], [[0], [1], [4]]), [[0, 2], [1, 2]])])):
             for history in all_histories(scene):
-                for value in range(3):
+                for value in range(scene.many):
                     tuples = forced(scene, history, 0, value)
                     stints = sorted(each for each, _ in tuples)
                     wrong = [each for each in stints if stints.count(each) > 1 or (each, None) in tuples]

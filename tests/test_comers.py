@@ -61,6 +61,7 @@ def breaks(total, most):
 
 
 GOES = SOME
+LATE = Total(2, [[1, 2], [3, 4], [4, 3], [3, 4], [4, 3]], [0, 0, 0, 1, 2])
 COMES = modular([3], [[0], [1]], [0, 0, 1])
 
 
@@ -120,12 +121,18 @@ class Breaking(Case):
         self.assertEqual(words, {None, "comes", "goes"})
 
     def test_broken_one_way_only(self):
-        self.assertEqual(broken(GOES)[0], "goes")
-        self.assertFalse(any(shows_broken(GOES, ("comes", one, other, value)) for size in range(6)
-                             for one in all_bags(2, size) for other in all_bags(2, size) for value in (0, 1)))
-        only = Total(2, [[0, 1], [1, 2], [2, 3], [3, 4], [4, 5], [5, 6], [6, 0]], [0] * 6 + [1])
-        found = broken(only)
-        self.assertTrue(shows_broken(only, found))
+        for total, word, other_word in ((GOES, "goes", "comes"), (LATE, "comes", "goes")):
+            self.assertEqual(broken(total)[0], word)
+            self.assertTrue(shows_broken(total, broken(total)))
+            self.fails_with(Broken, lambda value: shows_broken(total, value), marks_of, total)
+            for size in range(7):
+                for one, other, value in product(all_bags(2, size), all_bags(2, size), (0, 1)):
+                    self.assertIs(is_broken(total, (other_word, one, other, value)), False)
+
+    def test_broken_far_away_only(self):
+        far = Total(2, [[0, 1], [1, 2], [2, 3], [3, 4], [4, 5], [5, 6], [6, 0]], [0] * 6 + [1])
+        self.assertTrue(shows_broken(far, broken(far)))
+        self.assertFalse(breaks(far, 4))
 
     def test_judge(self):
         for total in (SOME, ODD, COMES, modular([4], [[0], [1], [2]], [0, 0, 1, 2])):

@@ -76,6 +76,8 @@ class Disorders(Case):
     def test_each_condition_broken_alone(self):
         self.assertIs(is_disorder(LAST, ((0, 1), (1, 0))), True)
         self.assertIs(is_disorder(LAST, ((0, 1), (0, 0))), False)
+        self.assertIs(is_disorder(LAST, ((0, -1), (-1, 0))), False)
+        self.assertIs(is_disorder(LAST, ((0, True), (True, 0))), False)
         self.assertIs(is_disorder(LAST, ((0, 1, 0), (1, 0, 0))), False)
         self.assertIs(is_disorder(ODD, ((0, 1), (1, 0))), False)
         other = Total(2, [[1, 2], [1, 2], [1, 2]], [0, 1, 2])

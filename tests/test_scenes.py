@@ -180,6 +180,12 @@ class Errors(Case):
             self.refuses(InvalidHistory, wrong, alike, SMALL, wrong, None)
             self.refuses(InvalidHistory, wrong, alike, SMALL, [0, 0, 0], wrong)
 
+    def test_true_is_no_size_of_a_board(self):
+        single = Scene(2, [(count_board(2, 1), [[0]])])
+        for wrong in NO_INTEGERS + [0, 2, 7]:
+            self.refuses(InvalidSize, wrong, single.board, 0, wrong)
+        self.assertEqual(single.board(0, 1), count_board(2, 1))
+
     def test_no_asks(self):
         scene = Scene(2, [(COUNTS, []), (REST, [[0]])])
         self.refuses(InvalidAsk, 0, bag_at, scene, 0, 0, [0, 0])

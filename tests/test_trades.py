@@ -106,6 +106,8 @@ class Joining(Case):
             self.refuses(InvalidInside, wrong, joining_script, 4, wrong)
             self.refuses(InvalidInside, wrong, is_joining, 4, wrong, None)
         self.refuses(InvalidInside, 7, joining_script, 12, 7)
+        self.refuses(InvalidInside, 7, is_joining, 12, 7, None)
+        self.refuses(InvalidRows, 13, is_joining, 13, 6, None)
         self.refuses(InvalidInside, 2, joining_script, 2, 2)
 
 
