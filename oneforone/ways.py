@@ -46,7 +46,7 @@ def _choices(scene, history):
     found = [{}]
     for joint, choices in parts:
         chosen = [dict(zip(joint, choice)) for choice in choices]
-        found = [{**known, **more} for known in found for more in chosen]
+        found = [{**values, **more} for values in found for more in chosen]
     return [tuple([values[stint] for stint in range(scene.stints)]) for values in found]
 
 

@@ -168,6 +168,30 @@ class Alike(Case):
         self.assertEqual(told, {True, False})
 
 
+class Statements(Case):
+    def test_a_value_at_one_stint_settles_the_values_of_its_joint(self):
+        for scene in scenes(8, 40):
+            lists = alike_lists(scene)
+            for history in list(lists)[::5]:
+                for joint in sights.joints(scene):
+                    for stint in joint:
+                        settled = {}
+                        for other in lists[history]:
+                            values = tuple(other[each] for each in joint)
+                            self.assertEqual(settled.setdefault(other[stint], values), values)
+
+    def test_changes_of_a_strand_are_of_one_kind(self):
+        for scene in scenes(9, 30):
+            lists = alike_lists(scene)
+            for reader, size in sights.linked_sizes(scene):
+                kinds = sights.kind_lists(scene, reader, size)
+                for strand in sights.strands(scene, reader, size):
+                    for one in list(lists)[::9]:
+                        for other in lists[one]:
+                            changes = {(one[stint], other[stint]) for stint in strand}
+                            self.assertTrue(any(changes <= set(kind) for kind in kinds))
+
+
 class Limits(Case):
     def test_the_product_of_the_ways(self):
         self.assertEqual(count_alike(LOOSE, [0] * 10), 512)
