@@ -46,9 +46,8 @@ def _check_numbers(numbers):
         raise InvalidNumbers(numbers)
 
 
-def like_sums(numbers):
-    """Two lists of places, without a common one, of numbers with one sum, or None."""
-    _check_numbers(numbers)
+def like_sum_places(numbers):
+    """Two lists of places, without a common one, of any number of numbers, with one sum, or None."""
     places = {0: []}
     for at, number in enumerate(numbers):
         fresh = {total + number: chosen + [at] for total, chosen in places.items()}
@@ -58,6 +57,12 @@ def like_sums(numbers):
                 return chosen, places[total]
         places.update(fresh)
     return None
+
+
+def like_sums(numbers):
+    """Two lists of places, without a common one, of numbers with one sum, or None."""
+    _check_numbers(numbers)
+    return like_sum_places(numbers)
 
 
 def is_like_sums(numbers, value):

@@ -29,18 +29,24 @@ def ways(scene, history, joint):
     return _ways(scene, history, found[joint], strand_steps(scene))
 
 
-def _product(numbers):
+def product_of(numbers):
+    """The product of the numbers, 1 if there are none."""
     found = 1
     for number in numbers:
         found = found * number
     return found
 
 
+def joint_ways(scene, history):
+    """The list of the tuples of a joint and its ways, for seen readers."""
+    steps = strand_steps(scene)
+    return [(joint, _ways(scene, history, joint, steps)) for joint in joints(scene)]
+
+
 def _choices(scene, history):
     """All histories in which each joint has one of its ways."""
-    steps = strand_steps(scene)
-    parts = [(joint, _ways(scene, history, joint, steps)) for joint in joints(scene)]
-    many = _product([len(choices) for _, choices in parts])
+    parts = joint_ways(scene, history)
+    many = product_of([len(choices) for _, choices in parts])
     if many > 1024:
         raise TooMany(many)
     found = [{}]
@@ -110,11 +116,8 @@ def next_signs(scene, history, reader, lot):
     return sorted(set([lot_sign(scene, reader, lot, each) for each in found]))
 
 
-def stays_open(scene, history, stint, reader, lot):
-    """Any alike history in which the lot would tell the stint, or None if there is none."""
-    found = histories_alike(scene, history)
-    check_stint(scene, stint)
-    check_lot(scene, reader, lot)
+def telling_history(scene, found, stint, reader, lot):
+    """Any of the alike histories that are found in which the lot would tell the stint, or None if there is none."""
     by_sign = {}
     for each in found:
         by_sign.setdefault(lot_sign(scene, reader, lot, each), []).append(each)
@@ -122,3 +125,11 @@ def stays_open(scene, history, stint, reader, lot):
         if all([each[stint] == same[0][stint] for each in same]):
             return same[0]
     return None
+
+
+def stays_open(scene, history, stint, reader, lot):
+    """Any alike history in which the lot would tell the stint, or None if there is none."""
+    found = histories_alike(scene, history)
+    check_stint(scene, stint)
+    check_lot(scene, reader, lot)
+    return telling_history(scene, found, stint, reader, lot)

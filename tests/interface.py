@@ -57,6 +57,18 @@ FUNCTIONS = {
     "trades": {"joining_script": "rows inside", "is_joining": "rows inside value", "told_by_trades": "board rows",
                "like_sums": "numbers", "is_like_sums": "numbers value", "best_numbers": "rows inside",
                "fewest_trades": "rows inside", "telling_script": "rows inside"},
+    "gates": {"numbers_of": "scene reader", "every_history": "scene", "gate": "scene history stint out into"},
+    "live": {"live_scene": "source rows inside deeds", "live_rows": "rows deeds"},
+    "nobody": {"nobody": "scene reader", "closed": "scene", "met": "scene", "closed_ways": "scene history",
+               "closed_shifts": "scene history", "count_shifted": "scene history"},
+    "webs": {"is_filling": "web value", "shown": "web filling", "alike_fillings": "web one other",
+             "is_flow": "web value"},
+    "rings": {"rise": "web filling tie", "fall": "web filling tie", "is_ring": "web filling value",
+              "ringed": "web filling ring"},
+    "spans": {"highest": "web filling tie", "lowest": "web filling tie", "is_highest": "web filling tie value",
+              "is_lowest": "web filling tie value", "span": "web filling tie", "level": "web filling tie number",
+              "fitting": "web signs", "is_no_filling": "web signs value"},
+    "prices": {"greatest_sum": "web filling weights", "is_greatest_sum": "web filling weights value"},
 }
 
 # For each class its arguments, its attributes, and its methods with their arguments.
@@ -68,4 +80,5 @@ CLASSES = {
                          {"stand": "things", "sign": "things", "__eq__": "other", "__len__": ""})},
     "scenes": {"Scene": ("stints readers", "stints many readers",
                          {"board": "reader size", "sign": "reader ask history", "__eq__": "other"})},
+    "webs": {"Web": ("places ties", "places ties", {"__eq__": "other", "__len__": ""})},
 }

@@ -321,6 +321,73 @@ raises Hidden((1, 0))
 >>> [like_sums([1, 2, 4]), is_like_sums([3, 1, 2], ([0], [1, 2])), is_like_sums([3, 0], ([], [1]))]
 [None, True, True]
 """,
+    "gates": """
+>>> from oneforone.boards import count_board
+>>> from oneforone.gates import every_history, gate, numbers_of
+>>> from oneforone.tables import trades_scene
+>>> scene = trades_scene(count_board(2, 3), rows=4, inside=3, script=[(1, 3), (2, 1)])
+>>> [numbers_of(scene, 0), every_history(scene)]
+[[1, 2], None]
+>>> scene = trades_scene(count_board(2, 2), 3, 2, [(1, 2)])
+>>> [numbers_of(scene, 0), gate(scene, [0, 1, 1], 0, 2, 1), gate(scene, [0, 1, 1], 0, 0, 1)]
+[[1, 1], True, False]
+>>> gate(scene, [0, 0, 0], 0, 0, 1)
+raises NotOpen(0)
+""",
+    "live": """
+>>> from oneforone.dials import Dials
+>>> from oneforone.live import live_rows, live_scene
+>>> scene = live_scene(Dials([0], [[0], [1]]), 3, [0, 1], [("trade", 0, 2), ("renew", 1)])
+>>> [scene.stints, scene.readers[0][1], live_rows(3, [("trade", 0, 2), ("renew", 1)])]
+[4, ((0, 1), (1, 2), (2, 3)), [[0], [1, 3], [2]]]
+>>> live_scene(Dials([0], [[0], [1]]), 2, [0], [("come", 0)])
+raises InvalidDeeds([('come', 0)])
+```""",
+    "nobody": """
+>>> from oneforone.dials import Dials
+>>> from oneforone.live import live_scene
+>>> from oneforone.nobody import closed, closed_shifts, closed_ways, count_shifted, met, nobody
+>>> dials = Dials([0], [[0], [1]])
+>>> scene = live_scene(dials, 3, [0, 1], [("trade", 0, 2), ("renew", 1)])
+>>> [closed(scene), closed_ways(scene, [0, 1, 0, 1]), closed_shifts(scene, [0, 1, 0, 1]), count_shifted(scene, [0, 1, 0, 1])]
+[[0, 1], [[(0, 0), (1, 1)], [(0, 0), (1, 1)]], [(1, [(0,), (1,)]), (1, [(-1,), (0,)])], 2]
+>>> other = live_scene(dials, 3, [0], [("come", 1), ("go", 0)])
+>>> [nobody(other, 0), met(other), closed(other)]
+[[0, 1], [0], [1]]
+""",
+    "webs": """
+>>> from oneforone.webs import Web, alike_fillings, is_flow, shown
+>>> web = Web(3, [(0, 2, 0, 2), (0, 1, 0, 2), (1, 2, 0, 1)])
+>>> [shown(web, [1, 1, 0]), alike_fillings(web, [1, 1, 0], (0, 2, 1)), is_flow(web, [1, -1, -1]), is_flow(web, [1, 1, 0])]
+[(2, 1), True, True, False]
+```""",
+    "rings": """
+>>> from oneforone.rings import fall, is_ring, ringed, rise
+>>> from oneforone.webs import Web
+>>> web = Web(3, [(0, 2, 0, 2), (0, 1, 0, 2), (1, 2, 0, 1)])
+>>> [rise(web, [1, 1, 0], 0), rise(web, [1, 2, 0], 1), fall(web, [1, 1, 0], 0)]
+[('shut', [2]), ('full',), ('ring', [(0, -1), (1, 1), (2, 1)])]
+>>> [ringed(web, [1, 1, 0], [(2, 1), (0, -1), (1, 1)]), is_ring(web, [1, 1, 0], [(0, 1), (2, -1), (1, -1)])]
+[(0, 2, 1), False]
+```""",
+    "spans": """
+>>> from oneforone.spans import fitting, highest, is_no_filling, level, lowest, span
+>>> from oneforone.webs import Web
+>>> web = Web(3, [(0, 2, 0, 2), (0, 1, 0, 2), (1, 2, 0, 1)])
+>>> [highest(web, [1, 1, 0], 0), lowest(web, [1, 1, 0], 0), span(web, [1, 1, 0], 2), fitting(web, [3, 1])]
+[((1, 1, 0), [2]), ((0, 2, 1), []), (0, 1), (1, 2, 0)]
+>>> [is_no_filling(web, [1, 3], [1]), is_no_filling(web, [1, 3], [0, 2]), is_no_filling(web, [1, 3], [0])]
+[True, True, False]
+>>> level(web, [1, 1, 0], 0, 2)
+raises Beyond(0, 1)
+```""",
+    "prices": """
+>>> from oneforone.prices import greatest_sum, is_greatest_sum
+>>> from oneforone.webs import Web
+>>> web = Web(3, [(0, 2, 0, 2), (0, 1, 0, 2), (1, 2, 0, 1)])
+>>> [greatest_sum(web, [1, 1, 0], [0, 3, -1])[0], is_greatest_sum(web, [1, 1, 0], [0, 3, -1], ((0, 2, 1), [0, 1, 0]))]
+[(0, 2, 1), True]
+""",
 }
 
 

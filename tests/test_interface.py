@@ -7,10 +7,14 @@ import unittest
 
 from oneforone.boards import Board, count_board
 from oneforone.dials import Dials
+from oneforone.live import live_scene
 from oneforone.scenes import Scene
 from oneforone.totals import Total
+from oneforone.webs import Web
 from tests.cases import Case
 from tests.interface import CLASSES, FUNCTIONS
+from tests.lives import STEPS
+from tests.nets import SMALL
 from tests.runs import LAST, ODD, SOME
 from tests.walks import any_values, border, first_board, klein_board, sums_board
 
@@ -23,6 +27,7 @@ COUNTS = count_board(2, 2)
 PAIR = Scene(3, [(COUNTS, [[0, 1], [1, 2]])])
 LINE = Scene(5, [(COUNTS, [[0, 1], [1, 2], [2, 3]]), (ODD, [[], [0], [0, 4]]), (Dials([2], [[0], [1]]), [[4], [0, 1, 3]])])
 SUMS = Board(3, 2, [0, 1, 2, 2, 3, 4])
+LIVE = live_scene(STEPS, 3, [0], [("come", 1), ("renew", 0), ("trade", 1, 2)])
 
 # Right arguments for each function; where a list is expected, a list stands here.
 RIGHT = {
@@ -92,6 +97,22 @@ RIGHT = {
     "joining_script": [(6, 3)], "is_joining": [(3, 1, [(0, 1), (1, 2)])], "told_by_trades": [(COUNTS, 4)],
     "like_sums": [([3, 5, 1, 2],), ([1, 2, 4],)], "is_like_sums": [([3, 1, 2], ([0], [1, 2]))],
     "best_numbers": [(9, 5)], "fewest_trades": [(9, 5)], "telling_script": [(9, 5)],
+    "numbers_of": [(PAIR, 0)], "every_history": [(PAIR,), (Scene(3, [(COUNTS, [[0, 1]])]),)],
+    "gate": [(PAIR, [0, 1, 0], 0, 1, 0)],
+    "live_scene": [(STEPS, 3, [0, 1], [("trade", 0, 2), ("renew", 1)]), (ODD, 2, [], [])],
+    "live_rows": [(3, [("trade", 0, 2), ("renew", 1)])],
+    "nobody": [(LINE, 1)], "closed": [(LINE,)], "met": [(LINE,), (LIVE,)], "closed_ways": [(LIVE, [0, 1, 0, 1])],
+    "closed_shifts": [(LIVE, [0, 1, 0, 1])], "count_shifted": [(LIVE, [0, 1, 0, 1])],
+    "is_filling": [(SMALL, [1, 1, 0])], "shown": [(SMALL, [1, 1, 0])], "alike_fillings": [(SMALL, [1, 1, 0], [0, 2, 1])],
+    "is_flow": [(SMALL, [1, -1, -1])],
+    "rise": [(SMALL, [1, 1, 0], 0), (SMALL, [1, 2, 0], 1)], "fall": [(SMALL, [1, 1, 0], 0), (SMALL, [0, 1, 0], 1)],
+    "is_ring": [(SMALL, [1, 1, 0], [(2, 1), (0, -1), (1, 1)])], "ringed": [(SMALL, [1, 1, 0], [(2, 1), (0, -1), (1, 1)])],
+    "highest": [(SMALL, [1, 1, 0], 0), (SMALL, [0, 2, 1], 1)], "lowest": [(SMALL, [1, 1, 0], 0), (SMALL, [1, 1, 0], 1)],
+    "is_highest": [(SMALL, [1, 1, 0], 0, ((1, 1, 0), [2]))], "is_lowest": [(SMALL, [1, 1, 0], 0, ((0, 2, 1), []))],
+    "span": [(SMALL, [1, 1, 0], 2)], "level": [(SMALL, [1, 1, 0], 0, 0)], "fitting": [(SMALL, [3, 1])],
+    "is_no_filling": [(SMALL, [1, 3], [0, 2])],
+    "greatest_sum": [(SMALL, [1, 1, 0], [0, 3, -1])],
+    "is_greatest_sum": [(SMALL, [1, 1, 0], [0, 3, -1], ([0, 2, 1], [0, 1, 0]))],
 }
 
 
@@ -127,7 +148,7 @@ def state(value):
         return type(value), [state(item) for item in value]
     if type(value) is Scene:
         return Scene, value.stints, value.many, state(value.readers)
-    if type(value) in (Board, Dials, Total):
+    if type(value) in (Board, Dials, Total, Web):
         return type(value), {name: copy.deepcopy(each) for name, each in vars(value).items()}
     return type(value), value
 
@@ -156,7 +177,7 @@ class Interface(Case):
                 for method, names in methods.items():
                     self.assertIn(method, vars(own))
                     self.assertEqual(list(inspect.signature(vars(own)[method]).parameters)[1:], names.split())
-        for made in (TURNS, DIALS, ODD, LINE):
+        for made in (TURNS, DIALS, ODD, LINE, SMALL):
             home = CLASSES[type(made).__module__.split(".")[1]]
             for attribute in home[type(made).__name__][1].split():
                 self.assertIn(attribute, vars(made))
@@ -175,6 +196,7 @@ class Interface(Case):
         self.assertEqual([ODD.stand(things=[1]), ODD.sign(things=[1])], [1, 7])
         self.assertEqual(Scene(readers=[(COUNTS, [[0, 1], [1, 2]])], stints=3), PAIR)
         self.assertEqual([PAIR.board(size=2, reader=0), PAIR.sign(history=[0, 1, 1], ask=1, reader=0)], [COUNTS, 2])
+        self.assertEqual(Web(ties=list(SMALL.ties), places=3), SMALL)
 
     def test_lists_and_tuples_alike(self):
         for function, names, given in calls():
@@ -215,7 +237,7 @@ class Interface(Case):
                     self.assertIs(type(function(*given[:-1], value=value)), bool)
                     self.assertEqual(state(value), before)
                 self.assertIs(function(*given[:-1], None), False)
-        self.assertEqual(judges, 25)
+        self.assertEqual(judges, 32)
 
 
 if __name__ == "__main__":
