@@ -4,6 +4,7 @@ from oneforone.bags import bags, count_bags
 from oneforone.checks import are_whole, check_full_bag, check_size, check_values, is_full_bag, is_list, is_tuple
 from oneforone.errors import InvalidLine, InvalidOther, InvalidSigns, InvalidSize, InvalidValues
 from oneforone.ranks import first_ranks
+from oneforone.words import written
 
 
 class Board:
@@ -95,20 +96,12 @@ def both(one, other):
     return Board(one.many, one.size, first_ranks(list(zip(one.signs, other.signs))))
 
 
-def _number(word):
-    """The integer that is written so, or None if none is."""
-    digits = word.removeprefix("-")
-    if not digits.isdecimal() or not digits.isascii() or str(int(word)) != word:
-        return None
-    return int(word)
-
-
 def read_board(line):
     """The board that has this line."""
     if not isinstance(line, str):
         raise InvalidLine(line)
     words = line.split(" ")
-    numbers = [_number(word) for word in words[:2] + words[3:]]
+    numbers = [written(word) for word in words[:2] + words[3:]]
     if words[2:3] != ["/"]:
         raise InvalidLine(line)
     try:

@@ -34,20 +34,22 @@ def _check_deeds(rows, deeds):
         raise InvalidDeeds(deeds)
 
 
-def _rows_behind(present, deed):
-    """The ascending list of the rows that are in behind a deed, or None if it is not possible."""
-    word, row = deed[0], deed[1]
-    into = deed[-1]
+def rows_behind(present, deed):
+    """The ascending list of the rows that are in behind a possible deed."""
+    word, row = deed[:2]
+    if word == "renew":
+        return list(present)
+    staying = [other for other in present if word == "come" or other != row]
+    return staying if word == "go" else sorted(staying + [deed[-1]])
+
+
+def _is_possible(present, deed):
+    word, row = deed[:2]
     if word == "come":
-        possible = row not in present and len(present) < 6
-    elif word == "trade":
-        possible = row in present and into not in present
-    else:
-        possible = row in present
-    if not possible:
-        return None
-    staying = present if word == "come" else [other for other in present if other != row]
-    return staying if word == "go" else sorted(staying + [into])
+        return row not in present and len(present) < 6
+    if word == "trade":
+        return row in present and deed[-1] not in present
+    return row in present
 
 
 def _asks(rows, inside, deeds):
@@ -57,9 +59,9 @@ def _asks(rows, inside, deeds):
     present = list(inside)
     asks = [present]
     for deed in deeds:
-        present = _rows_behind(present, deed)
-        if present is None:
+        if not _is_possible(present, deed):
             return None
+        present = rows_behind(present, deed)
         if deed[0] == "renew":
             last[deed[1]] = begun
             begun += 1

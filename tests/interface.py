@@ -69,6 +69,21 @@ FUNCTIONS = {
               "is_lowest": "web filling tie value", "span": "web filling tie", "level": "web filling tie number",
               "fitting": "web signs", "is_no_filling": "web signs value"},
     "prices": {"greatest_sum": "web filling weights", "is_greatest_sum": "web filling weights value"},
+    "held": {"held": "web cuts", "open_behind": "web filling cuts", "cheapest_held": "web filling tie prices",
+             "is_cheapest_held": "web filling tie value prices"},
+    "rest_webs": {"rest_shown": "web values modulus", "firm_ties": "web", "parts": "web", "count_rests": "web modulus",
+                  "rest_twin": "web values modulus tie", "cheapest_rest_held": "web tie prices",
+                  "is_cheapest_rest_held": "web tie value prices"},
+    "openings": {"tells_all": "web ties", "closed_ring": "web ties", "other_fillings": "web ties",
+                 "cheapest_openings": "web prices", "is_cheapest_openings": "web prices value"},
+    "lands": {"trees": "land", "ringless": "land size", "road_blocks": "land", "shared_ring": "land one other",
+              "land_scene": "source land lots"},
+    "works": {"first_works": "queues size", "never_first": "queues size"},
+    "strips": {"strip_lots": "length creases", "strip_way": "length creases place",
+               "is_strip_way": "length creases place value", "band_lots": "length axes",
+               "band_told": "length one other", "band_rounds": "length one other"},
+    "desk": {},
+    "journal": {"read_desk": "dials rows values inside lines held"},
 }
 
 # For each class its arguments, its attributes, and its methods with their arguments.
@@ -81,4 +96,10 @@ CLASSES = {
     "scenes": {"Scene": ("stints readers", "stints many readers",
                          {"board": "reader size", "sign": "reader ask history", "__eq__": "other"})},
     "webs": {"Web": ("places ties", "places ties", {"__eq__": "other", "__len__": ""})},
+    "lands": {"Land": ("towns roads", "towns roads", {"__eq__": "other"})},
+    "desk": {"Desk": ("dials rows values inside held", "",
+                      {"renew": "row value", "trade": "out into", "come": "row", "go": "row", "hold": "", "show": "",
+                       "present": "", "history": "", "stints": "", "log": "", "scene": "", "fates": "", "known": "",
+                       "would_tell": "deed", "guess": "row", "undo": "", "redo": "", "tried": "deeds", "journal": "",
+                       "web": "", "__eq__": "other"})},
 }

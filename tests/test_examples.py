@@ -388,6 +388,94 @@ raises Beyond(0, 1)
 >>> [greatest_sum(web, [1, 1, 0], [0, 3, -1])[0], is_greatest_sum(web, [1, 1, 0], [0, 3, -1], ((0, 2, 1), [0, 1, 0]))]
 [(0, 2, 1), True]
 """,
+    "held": """
+>>> from oneforone.held import cheapest_held, held, is_cheapest_held, open_behind
+>>> from oneforone.webs import Web
+>>> web = Web(4, [(0, 2, 0, 2), (0, 1, 0, 2), (1, 3, 0, 2), (2, 3, 0, 2)])
+>>> [held(web, [1])[0].ties, held(web, [0])[1]]
+[((0, 1, 0, 2), (0, 1, 0, 2), (1, 2, 0, 2), (1, 2, 0, 2)), [0, 2, 3]]
+>>> [open_behind(web, [1, 2, 0, 1], []), open_behind(web, [1, 2, 0, 1], [1])]
+[[], [0, 1, 2, 3]]
+>>> cheapest_held(web, [1, 2, 0, 1], 1, [5, 3, 4])
+([1], None, (0, 3, 0, 0))
+>>> is_cheapest_held(web, [1, 2, 0, 1], 1, ([0], None, [0, 1, 0, 0]))
+True
+```""",
+    "rest_webs": """
+>>> from oneforone.rest_webs import cheapest_rest_held, count_rests, firm_ties, parts, rest_shown, rest_twin
+>>> from oneforone.webs import Web
+>>> web = Web(4, [(0, 1, 0, 0), (0, 1, 0, 0), (1, 3, 0, 0)])
+>>> [rest_shown(web, [1, 2, 1], 3), firm_ties(web), parts(web), count_rests(web, 3)]
+[(0, 1, 1), [2], 2, 3]
+>>> [rest_twin(web, [1, 2, 1], 3, 2), rest_twin(web, [1, 0, 0], 2, 0)]
+[None, (0, 1, 0)]
+>>> cheapest_rest_held(web, 2, [9, 1, 4])
+([1, 2], (5, 5, 4, 0))
+```""",
+    "openings": """
+>>> from oneforone.openings import cheapest_openings, closed_ring, is_cheapest_openings, tells_all
+>>> from oneforone.webs import Web
+>>> web = Web(3, [(0, 1, 0, 1), (1, 2, 0, 1), (0, 2, 0, 1)])
+>>> [tells_all(web, []), tells_all(web, [1]), closed_ring(web, [0]), cheapest_openings(web, [3, 1, 2])]
+[False, True, None, [1]]
+>>> is_cheapest_openings(web, [1, 0, 0], [1, 2])
+True
+""",
+    "lands": """
+>>> from oneforone.boards import count_board
+>>> from oneforone.lands import Land, land_scene, ringless, road_blocks, shared_ring, trees
+>>> from oneforone.links import number, strands
+>>> land = Land(3, [(0, 1), (0, 1), (1, 2), (2, 2)])
+>>> [trees(land), ringless(land, 1), road_blocks(land), sorted(shared_ring(land, 0, 1))]
+[[[0, 2], [1, 2]], [[0], [1], [2]], [[0, 1], [2], [3]], [0, 1]]
+>>> scene = land_scene(count_board(2, 2), land, trees(land))
+>>> [strands(scene, 0, 2), number(scene, 0, 1, [0, 1])]
+[[[0, 1]], 1]
+>>> trees(Land(3, [(0, 1)]))
+raises NotJoined(2)
+```""",
+    "works": """
+>>> from oneforone.works import first_works, never_first
+>>> [first_works([1, 2], 2), never_first([1, 2], 1)]
+[[[0, 1], [1, 2]], [2]]
+```""",
+    "strips": """
+>>> from oneforone.strips import band_lots, band_rounds, band_told, is_strip_way, strip_lots
+>>> [strip_lots(4, [1, 3]), band_lots(3, [0, 1])]
+[[[0, 1], [2], [3], [0], [1], [2, 3]], [[0], [1, 2], [0, 1], [2]]]
+>>> [is_strip_way(5, [2, 3], 2, [4, 1, 2]), is_strip_way(5, [2, 3], 2, [3, 2])]
+[True, False]
+>>> [band_told(3, 0, 1), band_told(4, 1, 3), band_rounds(12, 1, 7)]
+[True, False, 3]
+""",
+    "desk": """
+>>> from oneforone.desk import Desk
+>>> from oneforone.dials import Dials
+>>> desk = Desk(Dials([0], [[0], [1]]), 3, [0, 1, 1], [0, 1])
+>>> [desk.log(), desk.guess(0), desk.would_tell(("trade", 0, 2)), desk.would_tell(("trade", 1, 2))]
+[[(1,)], (0, 1), [0, 1, 2], []]
+>>> [desk.trade(0, into=2), desk.known(), desk.present()]
+[(2,), [0, 1, 2], ((1, 1), (2, 1))]
+>>> [desk.hold(), desk.renew(1, 0), desk.go(2), desk.show(), desk.log()]
+[None, None, None, (0,), [(1,), (2,), (0,)]]
+>>> [desk.stints(), desk.undo(), desk.undo(), desk.redo(), desk.journal()]
+[[(0, 0), (1, 1), (2, 1), (1, 0)], None, None, None, ['trade 0 2', 'hold', 'renew 1 0', 'go 2']]
+>>> [desk.web().places, desk.web().ties, desk.fates()]
+[3, ((0, 1, 0, 1), (0, 2, 0, 1), (1, 2, 0, 1)), [(0,), (1,), (1,), (0, 1)]]
+>>> desk.come(1)
+raises InRow(1)
+```""",
+    "journal": """
+>>> from oneforone.desk import Desk
+>>> from oneforone.dials import Dials
+>>> from oneforone.journal import read_desk
+>>> dials = Dials([3], [[0], [1], [2]])
+>>> desk = read_desk(dials, 2, [2, 1], [0], ["trade 0 1", "show"], held=True)
+>>> [desk.log(), desk.journal(), desk == Desk(dials, 2, [2, 1], [0], True).tried([("trade", 0, 1), ("show",)])]
+[[(1,)], ['trade 0 1', 'show'], True]
+>>> read_desk(dials, 2, [2, 1], [0], ["come 0", "come 01"])
+raises InvalidLine('come 01')
+""",
 }
 
 

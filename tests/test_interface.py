@@ -7,6 +7,8 @@ import unittest
 
 from oneforone.boards import Board, count_board
 from oneforone.dials import Dials
+from oneforone.desk import Desk
+from oneforone.lands import Land
 from oneforone.live import live_scene
 from oneforone.scenes import Scene
 from oneforone.totals import Total
@@ -27,6 +29,10 @@ COUNTS = count_board(2, 2)
 PAIR = Scene(3, [(COUNTS, [[0, 1], [1, 2]])])
 LINE = Scene(5, [(COUNTS, [[0, 1], [1, 2], [2, 3]]), (ODD, [[], [0], [0, 4]]), (Dials([2], [[0], [1]]), [[4], [0, 1, 3]])])
 SUMS = Board(3, 2, [0, 1, 2, 2, 3, 4])
+FOUR = Web(4, [(0, 2, 0, 2), (0, 1, 0, 2), (1, 3, 0, 2), (2, 3, 0, 2)])
+LINES = Web(4, [(0, 1, 0, 0), (0, 1, 0, 0), (1, 3, 0, 0)])
+LAND = Land(3, [(0, 1), (0, 1), (1, 2), (2, 2)])
+DESK = Desk(STEPS, 3, [0, 1, 1], [0, 1])
 LIVE = live_scene(STEPS, 3, [0], [("come", 1), ("renew", 0), ("trade", 1, 2)])
 
 # Right arguments for each function; where a list is expected, a list stands here.
@@ -113,6 +119,20 @@ RIGHT = {
     "is_no_filling": [(SMALL, [1, 3], [0, 2])],
     "greatest_sum": [(SMALL, [1, 1, 0], [0, 3, -1])],
     "is_greatest_sum": [(SMALL, [1, 1, 0], [0, 3, -1], ([0, 2, 1], [0, 1, 0]))],
+    "held": [(FOUR, [1])], "open_behind": [(FOUR, [1, 2, 0, 1], [1])],
+    "cheapest_held": [(FOUR, [1, 2, 0, 1], 1), (FOUR, [1, 2, 0, 1], 1, [5, 3, 4]), (FOUR, [1, 1, 0, 1], 0)],
+    "is_cheapest_held": [(FOUR, [1, 2, 0, 1], 1, ([0], None, [0, 1, 0, 0]))],
+    "rest_shown": [(SMALL, [1, 2, 0], 3)], "firm_ties": [(SMALL,), (FOUR,)], "parts": [(SMALL,)], "count_rests": [(SMALL, 3)],
+    "rest_twin": [(SMALL, [1, 2, 0], 3, 1)], "cheapest_rest_held": [(FOUR, 1), (FOUR, 1, [3, 0, 2])],
+    "is_cheapest_rest_held": [(LINES, 2, ([1, 2], [2, 2, 1, 0]))],
+    "tells_all": [(FOUR, [1])], "closed_ring": [(FOUR, []), (FOUR, [1])], "other_fillings": [(FOUR, [])],
+    "cheapest_openings": [(SMALL, [3, 1, 2])], "is_cheapest_openings": [(SMALL, [1, 0, 0], [1, 2])],
+    "trees": [(LAND,)], "ringless": [(LAND, 1), (LAND, 0)], "road_blocks": [(LAND,)], "shared_ring": [(LAND, 0, 1)],
+    "land_scene": [(COUNTS, LAND, [[0, 2], [1, 2]])],
+    "first_works": [([1, 2], 2), ([3, 1], 0)], "never_first": [([1, 2], 1)],
+    "strip_lots": [(5, [2, 3])], "strip_way": [(5, [2, 3], 2)], "is_strip_way": [(5, [2, 3], 2, [4, 1, 2])],
+    "band_lots": [(5, [0, 1])], "band_told": [(4, 1, 3)], "band_rounds": [(12, 1, 7)],
+    "read_desk": [(STEPS, 3, [0, 1, 1], [0, 1], ["trade 0 2", "hold"]), (STEPS, 1, [0], [], [], True)],
 }
 
 
@@ -148,7 +168,7 @@ def state(value):
         return type(value), [state(item) for item in value]
     if type(value) is Scene:
         return Scene, value.stints, value.many, state(value.readers)
-    if type(value) in (Board, Dials, Total, Web):
+    if type(value) in (Board, Dials, Total, Web, Land, Desk):
         return type(value), {name: copy.deepcopy(each) for name, each in vars(value).items()}
     return type(value), value
 
@@ -177,7 +197,7 @@ class Interface(Case):
                 for method, names in methods.items():
                     self.assertIn(method, vars(own))
                     self.assertEqual(list(inspect.signature(vars(own)[method]).parameters)[1:], names.split())
-        for made in (TURNS, DIALS, ODD, LINE, SMALL):
+        for made in (TURNS, DIALS, ODD, LINE, SMALL, LAND, DESK):
             home = CLASSES[type(made).__module__.split(".")[1]]
             for attribute in home[type(made).__name__][1].split():
                 self.assertIn(attribute, vars(made))
@@ -197,6 +217,8 @@ class Interface(Case):
         self.assertEqual(Scene(readers=[(COUNTS, [[0, 1], [1, 2]])], stints=3), PAIR)
         self.assertEqual([PAIR.board(size=2, reader=0), PAIR.sign(history=[0, 1, 1], ask=1, reader=0)], [COUNTS, 2])
         self.assertEqual(Web(ties=list(SMALL.ties), places=3), SMALL)
+        self.assertEqual(Land(roads=list(LAND.roads), towns=3), LAND)
+        self.assertEqual(Desk(inside=[0, 1], held=False, values=[0, 1, 1], rows=3, dials=STEPS), DESK)
 
     def test_lists_and_tuples_alike(self):
         for function, names, given in calls():
@@ -237,7 +259,7 @@ class Interface(Case):
                     self.assertIs(type(function(*given[:-1], value=value)), bool)
                     self.assertEqual(state(value), before)
                 self.assertIs(function(*given[:-1], None), False)
-        self.assertEqual(judges, 32)
+        self.assertEqual(judges, 36)
 
 
 if __name__ == "__main__":

@@ -23,6 +23,8 @@ NO_NAMES = """attrgetter breakpoint builtins compile copyright credits delattr d
 hasattr help id importlib license locals methodcaller os quit setattr super type vars sys map""".split()
 NO_WORDS = """type typing typing_extensions enum Enum IntEnum StrEnum Flag IntFlag Generic Protocol ABC ABCMeta
 namedtuple NamedTuple TypedDict TYPE_CHECKING abstractmethod""".split()
+NO_ATTRIBUTES = """items keys values pop update append clear extend insert remove reverse setdefault sort args encode decode hex
+fromhex format""".split()
 NODES = """Module Expr Constant Import ImportFrom alias FunctionDef arguments arg Return Assign AugAssign If While For
 Break Continue Pass Raise Try ExceptHandler ClassDef Name Load Store Del Delete Attribute Call keyword Subscript Slice
 List Tuple Dict ListComp DictComp comprehension BinOp UnaryOp BoolOp Compare IfExp Starred JoinedStr FormattedValue
@@ -247,6 +249,7 @@ class Language(unittest.TestCase):
                 self.assertIn(node.attr, assigned, (name, node.lineno))
             if isinstance(node.ctx, ast.Store):
                 self.assertNotIn(node.attr, methods & set(METHODS))
+                self.assertNotIn(node.attr, NO_ATTRIBUTES, (name, node.lineno))
 
     def test_each_function_and_class_has_a_docstring(self):
         for name, tree in trees():

@@ -7,7 +7,9 @@ import random
 from itertools import combinations_with_replacement, product
 
 from oneforone.boards import Board
+from oneforone.desk import Desk
 from oneforone.dials import Dials
+from oneforone.lands import Land
 from oneforone.scenes import Scene
 from oneforone.totals import Total
 from oneforone.webs import Web
@@ -232,7 +234,8 @@ def any_values():
     """Any values: those of all kinds, nested up to eight deep."""
     plain = [None, True, False, 0, 1, -1, 2, 10 ** 19, "", "x", "0", Board(2, 2, [0, 1, 2]), Board(1, 1, [0]),
              Dials([], [[]]), Dials([0], [[0], [1]]), Total(2, [[0, 1], [1, 0]], [5, 7]),
-             Scene(3, [(Board(2, 2, [0, 1, 2]), [[0, 1], [1, 2]])]), Web(2, [(0, 1, 0, 1)])]
+             Scene(3, [(Board(2, 2, [0, 1, 2]), [[0, 1], [1, 2]])]), Web(2, [(0, 1, 0, 1)]),
+             Land(2, [(0, 1)]), Desk(Dials([0], [[0], [1]]), 2, [0, 1], [0])]
     found = list(plain)
     for one in plain:
         found += [[one], (one,), {"a": one}, [[one]], ((one,),), [(one, one)], ((one, one),), (one, one), [one, one],
