@@ -29,11 +29,10 @@ def balanced(web, filling, needs, weights):
     while True:
         lacks = [need - have for need, have in zip(needs, net_sums(web, found))]
         routes = cheapest_routes(_priced(web, found, weights), [place for place, lack in enumerate(lacks) if lack > 0])
-        over = [(routes[place][0], place) for place in routes if lacks[place] < 0]
+        over = [place for place in routes if lacks[place] < 0]
         if len(over) == 0:
             return found, sorted(routes)
-        place = min(over)[1]
-        route = routes[place][1]
+        route = routes[over[0]][1]
         start = step_ends(web, route[0])[0]
-        times = min([lacks[start], -lacks[place]] + [room(web, found, step) for step in route])
+        times = min([lacks[start], -lacks[over[0]]] + [room(web, found, step) for step in route])
         found = pushed(found, route, times)

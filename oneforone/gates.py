@@ -6,14 +6,13 @@ from oneforone.checks import is_between
 from oneforone.failures import NoAsks, NoSuchTrade, NotCounts, NotOpen, Pieces, UnsharpReader
 from oneforone.linked_sizes import linked_sizes
 from oneforone.links import joints, number, pieces
-from oneforone.scenes import check_reader, check_stint
+from oneforone.scenes import check_stint
 from oneforone.trades import like_sum_places
 from oneforone.ways import histories_alike, telling_history
 
 
 def numbers_of(scene, reader):
     """For each joint how many of its stints the reader's first ask has."""
-    check_reader(scene, reader)
     parts = pieces(scene, reader)
     if len(parts) == 0:
         raise NoAsks(reader)

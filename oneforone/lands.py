@@ -70,7 +70,7 @@ def _paths(land, start, end, been):
         return [[]]
     found = []
     for road, towns in enumerate(land.roads):
-        if start in towns and towns[0] != towns[1]:
+        if start in towns:
             beyond = towns[1] if towns[0] == start else towns[0]
             if beyond not in been:
                 found.extend([[road] + path for path in _paths(land, beyond, end, been + [beyond])])
@@ -80,7 +80,7 @@ def _paths(land, start, end, been):
 def _ring_with(land, one, other):
     """A ring that begins with the one road and has the other one, or None."""
     start, end = land.roads[one]
-    rings = [[one] + path for path in _paths(land, end, start, [end]) if other in path and one not in path]
+    rings = [[one] + path for path in _paths(land, end, start, [end]) if other in path]
     return rings[0] if rings else None
 
 

@@ -22,7 +22,7 @@ def check_inside(rows, inside):
 
 def _is_deed(rows, value):
     """Whether it is a deed of so many rows, possible or not."""
-    if not isinstance(value, tuple) or len(value) == 0 or not are_between(value[1:], 0, rows - 1):
+    if not isinstance(value, tuple) or not are_between(value[1:], 0, rows - 1):
         return False
     if len(value) == 3:
         return value[0] == "trade"
@@ -39,7 +39,7 @@ def rows_behind(present, deed):
     word, row = deed[:2]
     if word == "renew":
         return list(present)
-    staying = [other for other in present if word == "come" or other != row]
+    staying = [other for other in present if other != row]
     return staying if word == "go" else sorted(staying + [deed[-1]])
 
 

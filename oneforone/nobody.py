@@ -44,7 +44,7 @@ def _is_clear(source, size):
 
 def _check_clear_readers(scene):
     for reader, (source, _) in enumerate(scene.readers):
-        for size in sorted(set([size for size, _ in _alone(scene, reader)])):
+        for size in sorted(set([asked for asked, _ in _alone(scene, reader)])):
             if not _is_clear(source, size):
                 raise UnclearReader(reader, size)
 
@@ -109,4 +109,4 @@ def count_shifted(scene, history):
                 reached = rests_on(rounds, [a + times * b for a, b in zip(total, shift)])
                 after[reached] = after.get(reached, 0) + count
         counts = after
-    return counts.get(none, 0)
+    return counts[none]

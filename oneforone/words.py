@@ -4,6 +4,6 @@
 def written(word):
     """The integer that is written so, decimal and without leading zeros, or None if none is."""
     digits = word.removeprefix("-")
-    if not digits.isdecimal() or not digits.isascii() or str(int(word)) != word:
+    if not digits.isdecimal() or str(int(word)) != word:
         return None
     return int(word)

@@ -15,7 +15,7 @@ def _first_works(queues, size):
     begun = 0
     for many in queues:
         heads = [list(range(begun, begun + taken)) for taken in range(many + 1)]
-        found = [lot + head for lot in found for head in heads if len(lot) + len(head) <= size]
+        found = [lot + head for lot in found for head in heads]
         begun += many
     return sorted([lot for lot in found if len(lot) == size])
 

@@ -144,8 +144,14 @@ class Ringless(Case):
         # A town that is not joined comes ahead.
         self.fails(NotJoined, {"town": 5}, trees, Land(6, roads))
         self.fails(NotJoined, {"town": 2}, trees, Land(6, [(0, 1), (2, 3), (4, 5)]))
-        sixty = Land(3, [(0, 1)] * 6 + [(1, 2)] * 3)
-        self.assertEqual(len(trees(sixty)), 18)
+        self.assertEqual(len(trees(Land(3, [(0, 1)] * 6 + [(1, 2)] * 3))), 18)
+
+    def test_sixty_and_one_more(self):
+        sixty = Land(5, [(0, 2), (3, 4), (0, 4), (1, 3), (0, 4), (2, 4), (0, 3), (1, 2), (2, 3)])
+        more = Land(6, [(2, 5), (0, 4), (0, 1), (2, 3), (4, 5), (1, 3), (1, 2), (1, 5), (2, 4)])
+        self.assertEqual([len(trees(sixty)), len(ringless(sixty, 4))], [60, 60])
+        self.fails(TooMany, {"count": 61}, trees, more)
+        self.fails(TooMany, {"count": 61}, ringless, more, 5)
 
     def test_wrong_sizes(self):
         for wrong in NO_INTEGERS + [6, -1]:

@@ -80,6 +80,15 @@ class Greatest(Case):
         self.assertEqual(greatest_sum(TWO, [0, 1], [1000, -1000])[0], (4, -3))
         self.assertEqual(greatest_sum(TWO, [0, 1], [-1000, 1000])[0], (-3, 4))
 
+    def test_many_small_weights_are_more_than_a_large_one(self):
+        web = Web(4, [(0, 1, 0, 1), (1, 2, 0, 1), (2, 3, 0, 1), (0, 3, 0, 1)])
+        for weights, best in (([1, 1, 1, 2], (1, 1, 1, 0)), ([1, 1, 1, 4], (0, 0, 0, 1)), ([-1, -1, -1, -2], (0, 0, 0, 1)),
+                              ([-1, -1, -1, -4], (1, 1, 1, 0)), ([1, 1, -1, 0], (1, 1, 1, 0))):
+            for filling in ([0, 0, 0, 1], [1, 1, 1, 0]):
+                found = greatest_sum(web, filling, weights)
+                self.assertEqual(found[0], best)
+                self.right(web, filling, weights, found)
+
     def test_too_many(self):
         for most, count in ((100, 400), (99, 399)):
             web = Web(2, [(0, 1, -100, 100), (0, 1, -100, most)])

@@ -102,6 +102,10 @@ class Strips(Case):
                             lambda value: is_way(length, creases, place, value), values)
                 told |= {len(value) for value in values if is_way(length, creases, place, value)}
         self.assertTrue({1, 2, 3, 4} <= told)
+        # Places beyond the ends lie on nothing.
+        for place, value in ((4, [-1, 4]), (0, [5, 0]), (4, [-5, 4])):
+            self.assertIs(is_strip_way(5, [2, 3], place, value), False)
+            self.assertIs(is_strip_way(5, (3, 2), place, value), False)
         right = strip_way(5, [2, 3], 2)
         self.judges(lambda value: is_strip_way(5, [2, 3], 2, value), lambda value: is_way(5, [2, 3], 2, value),
                     any_values() + list(mutants(right)))
